@@ -184,8 +184,8 @@ func TestReadOfOtherTexts(t *testing.T) {
 	}
 }
 
-// TestReadOfEveryShortText holds Read against all texts of up to three bytes of those that may deceive it.
-func TestReadOfEveryShortText(t *testing.T) {
+// TestReadOfShortTexts goes through all texts of one and two bytes, and those of three whose last byte is one of some that stand at the edges of digits and letters.
+func TestReadOfShortTexts(t *testing.T) {
 	texts := map[string]api.Seat{}
 	for row := 1; row <= 99; row++ {
 		for letter := byte('A'); letter <= 'Z'; letter++ {
